@@ -2,6 +2,8 @@ package asm
 
 import (
 	"math"
+	"math/big"
+	"regexp"
 	"slices"
 	"strings"
 	"testing"
@@ -113,5 +115,125 @@ func TestParseReadsWhatTextWrites(t *testing.T) {
 	second, _ := Parse("push 5\nend\n")
 	if !slices.Equal(second, []api.Instr{{Op: ops.Push, A: 5}, {Op: ops.End}}) {
 		t.Errorf("P5.2: what was answered stands in the memory of another answer: %v", second)
+	}
+}
+
+// line is a line of code by the document's words, not by the package's.
+var line = regexp.MustCompile(`^(?:(?:push|load|store|arg|jump|zero|send) (0|-?[1-9][0-9]*)|pop|copy|swap|self|add|sub|mul|div|mod|neg|eq|less|and|or|not|arm|calm|end)$`)
+
+// written tells whether a text is one of code: such lines, with numbers of 64 binary digits, and a line's end behind each.
+func written(s string) bool {
+	lines := strings.Split(s, "\n")
+	for _, x := range lines[:len(lines)-1] {
+		found := line.FindStringSubmatch(x)
+		if found == nil {
+			return false
+		}
+		if n, ok := new(big.Int).SetString(found[1], 10); ok && !n.IsInt64() {
+			return false
+		}
+	}
+	return lines[len(lines)-1] == ""
+}
+
+// wantWritten holds Parse against the document's words, and Text against Parse.
+func wantWritten(t *testing.T, s string) bool {
+	t.Helper()
+	code, e := Parse(s)
+	if (e == api.OK) != written(s) || e != api.OK && e != api.ErrBad {
+		t.Fatalf("P5.1: Parse(%q) is %v, %d", s, code, e)
+	}
+	if e != api.OK && len(code) > 0 {
+		t.Fatalf("P5.1: Parse(%q) is refused, and has %v beside", s, code)
+	}
+	if e == api.OK && Text(code) != s {
+		t.Fatalf("P5.2: Parse(%q) is %v, whose Text is %q", s, code, Text(code))
+	}
+	return e == api.OK
+}
+
+// Each text that is a byte more, less or other than one of code.
+func TestTextsThatAreNearlyCode(t *testing.T) {
+	const s = "push 9223372036854775807\nend\npush -10\nzero 0\nadd\nor\n"
+	took := 0
+	count := func(x string) {
+		if wantWritten(t, x) {
+			took++
+		}
+	}
+	count(s)
+	for at := range len(s) {
+		count(s[:at])
+		count(s[at:])
+		count(s[:at] + s[at+1:])
+		for b := range 256 {
+			one := string([]byte{byte(b)})
+			count(s[:at] + one + s[at:])
+			count(s[:at] + one + s[at+1:])
+		}
+	}
+	if took < 50 {
+		t.Errorf("%d texts are taken: too few to tell", took)
+	}
+}
+
+// All short texts of a few bytes, as operands and as whole lines.
+func TestAllShortTexts(t *testing.T) {
+	const some = "0159-+ \nx\r"
+	texts := []string{""}
+	for range 4 {
+		for _, x := range texts {
+			wantWritten(t, x)
+			wantWritten(t, "push "+x+"\n")
+			wantWritten(t, "end"+x)
+			wantWritten(t, "end"+x+"\n")
+			wantWritten(t, "jump 1"+x+"end\n")
+		}
+		var longer []string
+		for _, x := range texts {
+			for _, b := range some {
+				longer = append(longer, x+string(b))
+			}
+		}
+		texts = longer
+	}
+}
+
+// The limits of a handler are those of other chapters: a text may be longer than a code may be.
+func TestLongTexts(t *testing.T) {
+	const many = 100000
+	s := strings.Repeat("push -7\nend\n", many)
+	code, e := Parse(s)
+	if e != api.OK || len(code) != 2*many || Text(code) != s {
+		t.Errorf("P5.1: Parse of %d lines is %d, and has %d", 2*many, e, len(code))
+	}
+	wantParse(t, s+"end", nil, api.ErrBad)
+	wantParse(t, s+"\n", nil, api.ErrBad)
+}
+
+func TestNothingHandedInIsChanged(t *testing.T) {
+	room := []api.Instr{{Op: ops.Push, A: 5}, {Op: ops.End}, {Op: ops.Arm}, {Op: 99, A: 1}}
+	before := slices.Clone(room)
+	if got := Text(room[:2]); got != "push 5\nend\n" {
+		t.Errorf("P5.1: Text of code with spare room is %q", got)
+	}
+	if got := Text(room); got != "" {
+		t.Errorf("P5.1: Text of code with an op that is none is %q", got)
+	}
+	text := Text(room[:1])
+	if !slices.Equal(room, before) {
+		t.Errorf("P5.2: Text changed what was handed in: %v", room)
+	}
+	room[0] = api.Instr{Op: ops.Calm}
+	if text != "push 5\n" || Text(room[:1]) != "calm\n" {
+		t.Errorf("P5.2: Text hangs on what was handed in earlier")
+	}
+	code, _ := Parse("push 5\nend\n")
+	other, _ := Parse("push 5\nend\n")
+	for i := range code[:cap(code)] {
+		code[:cap(code)][i] = api.Instr{Op: ops.Calm}
+	}
+	if Text(other) != "push 5\nend\n" {
+		t.Errorf("P5.2: two answers share memory: %v", other)
 	}
 }
